@@ -1,0 +1,1 @@
+"""Numberedlines: programs of numbered lines."""

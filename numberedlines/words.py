@@ -1,0 +1,207 @@
+"""Whether things are names, worths, expressions, statements, lines or programs."""
+
+GREATEST_WORTH = 10 ** 12
+LONGEST_TEXT = 100
+LONGEST_NAME = 8
+GREATEST_LINE = 9999
+MOST_LINES = 100
+DEEPEST_EXPRESSION = 8
+MOST_EXPRESSIONS = 40
+MOST_SAID = 5
+MOST_PICKED = 6
+MOST_DATA = 6
+
+BARRED_NAMES = ("and", "or", "not", "rest", "size", "part", "why", "where", "to", "by", "go", "call")
+
+# Behind each word of an expression, the kinds of the parts that it has.
+EXPRESSIONS = {
+    "number": ("number from 0",),
+    "text": ("text",),
+    "box": ("name",),
+    "cell": ("name", "expression"),
+    "fit": ("name", "expression"),
+    "+": ("expression", "expression"),
+    "-": ("expression", "expression"),
+    "*": ("expression", "expression"),
+    "/": ("expression", "expression"),
+    "rest": ("expression", "expression"),
+    "<": ("expression", "expression"),
+    "=": ("expression", "expression"),
+    ">": ("expression", "expression"),
+    "and": ("expression", "expression"),
+    "or": ("expression", "expression"),
+    "not": ("expression",),
+    "size": ("expression",),
+    "part": ("expression", "expression", "expression"),
+    "why": (),
+    "where": (),
+}
+
+# Behind each word of a statement, the kinds of the parts that it has.
+STATEMENTS = {
+    "set": ("name", "expression"),
+    "setcell": ("name", "expression", "expression"),
+    "say": ("expressions",),
+    "ask": ("name",),
+    "go": ("line",),
+    "goby": ("expression",),
+    "call": ("line",),
+    "back": (),
+    "when": ("expression", "line"),
+    "pick": ("expression", "way", "lines"),
+    "loop": ("name", "expression", "expression", "expression"),
+    "again": ("name",),
+    "data": ("worths",),
+    "read": ("name",),
+    "anew": ("line or None",),
+    "row": ("name", "expression"),
+    "fit": ("name", "name", "expression"),
+    "trap": ("line or 0",),
+    "retry": (),
+    "pass": (),
+    "stop": (),
+    "end": (),
+    "note": ("text",),
+}
+
+
+def is_whole(thing):
+    """Whether it is a whole number: a truth is none, though Python counts it as an int."""
+    return isinstance(thing, int) and not isinstance(thing, bool)
+
+
+def is_tuple_of(thing, test):
+    """Whether it is a tuple, and the test holds for each of its parts."""
+    return isinstance(thing, tuple) and all([test(part) for part in thing])
+
+
+def rises(things):
+    """Whether each one is greater than the one ahead of it."""
+    return all([one < other for one, other in zip(things, things[1:])])
+
+
+def is_name(thing):
+    if not isinstance(thing, str) or not 1 <= len(thing) <= LONGEST_NAME:
+        return False
+    return all(["a" <= sign <= "z" for sign in thing]) and thing not in BARRED_NAMES
+
+
+def is_number_worth(thing):
+    return is_whole(thing) and abs(thing) <= GREATEST_WORTH
+
+
+def is_text_worth(thing):
+    if not isinstance(thing, str) or len(thing) > LONGEST_TEXT:
+        return False
+    return all([" " <= sign <= "~" and sign != '"' for sign in thing])
+
+
+def is_worth(thing):
+    return is_number_worth(thing) or is_text_worth(thing)
+
+
+def is_line_number(thing):
+    return is_whole(thing) and 1 <= thing <= GREATEST_LINE
+
+
+def is_line_number_or_nought(thing):
+    return is_whole(thing) and 0 <= thing <= GREATEST_LINE
+
+
+def is_line_number_or_none(thing):
+    return thing is None or is_line_number(thing)
+
+
+def word_of(thing):
+    """The text that a tuple begins with, None of anything else."""
+    if isinstance(thing, tuple) and len(thing) > 0 and isinstance(thing[0], str):
+        return thing[0]
+    return None
+
+
+def inner_expressions(expression):
+    """The expressions directly within an expression, from the left to the right."""
+    kinds = EXPRESSIONS[expression[0]]
+    return [part for kind, part in zip(kinds, expression[1:]) if kind == "expression"]
+
+
+def is_leaf(kind, thing):
+    """Whether it is such a part of an expression as has no expression within."""
+    if kind == "name":
+        return is_name(thing)
+    if kind == "text":
+        return is_text_worth(thing)
+    return is_number_worth(thing) and thing >= 0
+
+
+def expressions_in(thing, depth):
+    """How many expressions it is, itself counted: 0 where it is none, or deeper than told."""
+    kinds = EXPRESSIONS.get(word_of(thing))
+    if depth == 0 or kinds is None or len(thing) != len(kinds) + 1:
+        return 0
+    leaves = [is_leaf(kind, part) for kind, part in zip(kinds, thing[1:]) if kind != "expression"]
+    if not all(leaves):
+        return 0
+    counts = [expressions_in(part, depth - 1) for part in inner_expressions(thing)]
+    if 0 in counts:
+        return 0
+    return 1 + sum(counts)
+
+
+def is_expression(thing):
+    return 1 <= expressions_in(thing, DEEPEST_EXPRESSION) <= MOST_EXPRESSIONS
+
+
+def is_said(thing):
+    return is_tuple_of(thing, is_expression) and len(thing) <= MOST_SAID
+
+
+def is_way(thing):
+    return thing in ("go", "call")
+
+
+def is_picked(thing):
+    return is_tuple_of(thing, is_line_number) and 1 <= len(thing) <= MOST_PICKED
+
+
+def is_data(thing):
+    return is_tuple_of(thing, is_worth) and 1 <= len(thing) <= MOST_DATA
+
+
+PART_TESTS = {
+    "name": is_name,
+    "text": is_text_worth,
+    "expression": is_expression,
+    "expressions": is_said,
+    "line": is_line_number,
+    "line or 0": is_line_number_or_nought,
+    "line or None": is_line_number_or_none,
+    "way": is_way,
+    "lines": is_picked,
+    "worths": is_data,
+}
+
+
+def is_part(kind, thing):
+    """Whether it is such a part of a statement."""
+    test = PART_TESTS[kind]
+    return test(thing)
+
+
+def is_statement(thing):
+    kinds = STATEMENTS.get(word_of(thing))
+    if kinds is None or len(thing) != len(kinds) + 1:
+        return False
+    return all([is_part(kind, part) for kind, part in zip(kinds, thing[1:])])
+
+
+def is_line(thing):
+    if not isinstance(thing, tuple) or len(thing) != 2:
+        return False
+    return is_line_number(thing[0]) and is_statement(thing[1])
+
+
+def is_program(thing):
+    if not is_tuple_of(thing, is_line) or len(thing) > MOST_LINES:
+        return False
+    return rises([line[0] for line in thing])

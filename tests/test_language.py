@@ -1,6 +1,7 @@
 """The rules of the language subset that a look at the files can tell."""
 
 import ast
+import builtins
 import pathlib
 import re
 import unittest
@@ -24,7 +25,7 @@ BARRED_WORDS = re.compile(
 BARRED_NAMES = set(
     "register mro elements open input version_info with_traceback add_note attrgetter breakpoint builtins compile "
     "copyright credits delattr dir eval exec exit gc getattr globals hasattr help id importlib license locals "
-    "methodcaller os quit setattr super type vars sys chr hash map next round filter iter".split())
+    "methodcaller os quit setattr super type vars sys".split()) | set(dir(builtins))
 
 
 def trees():
@@ -81,7 +82,7 @@ class Names(unittest.TestCase):
                   if node.name not in ("__init__", "__eq__", "__repr__", "__str__", "__len__")]
         for file, name in bound:
             self.assertFalse(name.startswith("_"), (file, name))
-            self.assertNotIn(name, BARRED_NAMES | BUILTINS, file)
+            self.assertNotIn(name, BARRED_NAMES, file)
 
     def test_only_known_builtins_and_methods_are_used(self):
         known = set(BUILTINS)

@@ -24,13 +24,19 @@ def come_to(expression, known, deep):
     # A fit that isn't there is the fault ahead of what is handed to it.
     if expression[0] == "fit" and expression[1] not in known[2]:
         return ("fault", "nofit")
+    told = come_all(inner_expressions(expression), known, deep)
+    return told if told[0] == "fault" else come_of(expression, told[1], known, deep)
+
+
+def come_all(expressions, known, deep):
+    """What all come to, from the left to the right: ("worths", list), or the first fault met."""
     worths = []
-    for inner in inner_expressions(expression):
-        told = come_to(inner, known, deep)
+    for expression in expressions:
+        told = come_to(expression, known, deep)
         if told[0] == "fault":
             return told
         worths.append(told[1])
-    return come_of(expression, worths, known, deep)
+    return ("worths", worths)
 
 
 def come_of(expression, worths, known, deep):

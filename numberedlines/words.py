@@ -125,6 +125,17 @@ def inner_expressions(expression):
     return [part for kind, part in zip(kinds, expression[1:]) if kind == "expression"]
 
 
+def expressions_of(statement):
+    """The expressions directly within a statement, from the left to the right."""
+    found = []
+    for kind, part in zip(STATEMENTS[statement[0]], statement[1:]):
+        if kind == "expression":
+            found.append(part)
+        if kind == "expressions":
+            found.extend(part)
+    return found
+
+
 def is_leaf(kind, thing):
     """Whether it is such a part of an expression as has no expression within."""
     if kind == "name":
@@ -168,8 +179,23 @@ def is_data(thing):
     return is_tuple_of(thing, is_worth) and 1 <= len(thing) <= MOST_DATA
 
 
+def is_how_many_said(thing):
+    return is_whole(thing) and 0 <= thing <= MOST_SAID
+
+
+def is_word_of_one(thing):
+    """Whether it is the word of an expression that has one within, and nothing else."""
+    return isinstance(thing, str) and EXPRESSIONS.get(thing) == ("expression",)
+
+
+def is_sign(thing):
+    """Whether it is the sign of an expression that has two within, and nothing else."""
+    return isinstance(thing, str) and EXPRESSIONS.get(thing) == ("expression", "expression")
+
+
 PART_TESTS = {
     "name": is_name,
+    "worth": is_worth,
     "text": is_text_worth,
     "expression": is_expression,
     "expressions": is_said,
@@ -179,20 +205,26 @@ PART_TESTS = {
     "way": is_way,
     "lines": is_picked,
     "worths": is_data,
+    "how many said": is_how_many_said,
+    "word of one": is_word_of_one,
+    "sign": is_sign,
 }
 
 
 def is_part(kind, thing):
-    """Whether it is such a part of a statement."""
+    """Whether it is such a part of a statement, or of a row made of one."""
     test = PART_TESTS[kind]
     return test(thing)
 
 
+def are_parts(kinds, things):
+    """Whether they are just one such part of each kind, in their order."""
+    return len(kinds) == len(things) and all([is_part(kind, part) for kind, part in zip(kinds, things)])
+
+
 def is_statement(thing):
     kinds = STATEMENTS.get(word_of(thing))
-    if kinds is None or len(thing) != len(kinds) + 1:
-        return False
-    return all([is_part(kind, part) for kind, part in zip(kinds, thing[1:])])
+    return kinds is not None and are_parts(kinds, thing[1:])
 
 
 def is_line(thing):

@@ -50,6 +50,11 @@ def state_with(state, **new):
     return tuple([new.get(name, part) for name, part in zip(PARTS, state)])
 
 
+def frame_number(frame):
+    """The number of the line that laid the frame."""
+    return frame[1] if frame[0] == "call" else frame[2]
+
+
 def is_state(program, thing):
     """Whether it is a state of the program, by its form; told of anything."""
     if not isinstance(thing, tuple) or len(thing) != len(PARTS):

@@ -125,6 +125,14 @@ def inner_expressions(expression):
     return [part for kind, part in zip(kinds, expression[1:]) if kind == "expression"]
 
 
+def all_within(expression):
+    """The expression and all expressions within it, at any depth."""
+    found = [expression]
+    for inner in inner_expressions(expression):
+        found.extend(all_within(inner))
+    return found
+
+
 def expressions_of(statement):
     """The expressions directly within a statement, from the left to the right."""
     found = []
@@ -133,6 +141,18 @@ def expressions_of(statement):
             found.append(part)
         if kind == "expressions":
             found.extend(part)
+    return found
+
+
+def targets_of(statement):
+    """The numbers of lines that a statement names, from the left to the right."""
+    found = []
+    for kind, part in zip(STATEMENTS[statement[0]], statement[1:]):
+        if kind == "lines":
+            found.extend(part)
+        # None and 0 stand there where no line is named.
+        elif kind in ("line", "line or 0", "line or None") and part not in (None, 0):
+            found.append(part)
     return found
 
 

@@ -2,6 +2,8 @@
 
 import unittest
 
+from numberedlines.code import made
+from numberedlines.machine import machine_step
 from numberedlines.states import is_state
 from numberedlines.walk import step
 from numberedlines.words import is_program
@@ -44,6 +46,17 @@ def below(n):
 
 NOUGHT = ("/", number(1), number(0))
 
+# A program that asks, loops, says and stops amid it.
+COUNTS = (
+    (10, ("ask", "n")),
+    (20, ("loop", "i", number(1), box("n"), number(1))),
+    (30, ("say", (box("i"), ("*", box("i"), box("i"))))),
+    (40, ("again", "i")),
+    (50, ("stop",)),
+    (60, ("ask", "m")),
+    (70, ("say", (("/", box("n"), box("m")),))),
+)
+
 
 def full(**parts):
     """A going state at line 10 with something in every part, but for the parts that are named."""
@@ -62,7 +75,7 @@ def last(statement):
 
 class Steps(unittest.TestCase):
     def assert_step(self, program, state, told, inputs=INPUTS):
-        """The step tells just that, each time, and changes nothing that it is handed."""
+        """The step tells just that, each time, also by made rows, and changes nothing that it is handed."""
         self.assertTrue(is_program(program), program)
         self.assertTrue(is_state(program, state), state)
         inputs = list(inputs)
@@ -72,6 +85,9 @@ class Steps(unittest.TestCase):
             self.assertTrue(is_same(answer, told), (answer, told))
             self.assertTrue(is_plain(answer))
             self.assertTrue(is_state(program, answer), answer)
+            by_rows = machine_step(made(program), program, state, inputs)
+            self.assertTrue(is_same(by_rows, told), (by_rows, told))
+            self.assertTrue(is_plain(by_rows))
         self.assertEqual(repr((program, state, inputs)), before)
 
     def assert_goes_on(self, statement, ahead=None, inputs=INPUTS, **changed):

@@ -4,18 +4,9 @@ import unittest
 
 from numberedlines.states import first_state, is_state
 from numberedlines.walk import gone_on, states_on, step, walk
-from stepping import NOTE, amid, box, full, number
+from stepping import COUNTS, NOTE, amid, box, full, number
 from things import is_plain, is_same
 
-COUNTS = (
-    (10, ("ask", "n")),
-    (20, ("loop", "i", number(1), box("n"), number(1))),
-    (30, ("say", (box("i"), ("*", box("i"), box("i"))))),
-    (40, ("again", "i")),
-    (50, ("stop",)),
-    (60, ("ask", "m")),
-    (70, ("say", (("/", box("n"), box("m")),))),
-)
 ENDLESS = ((10, ("set", "a", number(0))), (20, ("set", "a", ("+", box("a"), number(1)))), (30, ("go", 20)))
 PROGRAMS = (COUNTS, ENDLESS, (), ((1, NOTE),), ((1, ("go", 2)),), ((1, ("stop",)), (2, NOTE)))
 

@@ -70,13 +70,24 @@ def trap_lines(program):
     ]
 
 
-def never(program):
-    """The lines to which no ways lead from the first line on, rising."""
+def all_ways(program):
+    """The lines that may be next behind each line, by its number."""
+    return {number: may_be_next(program, number) for number, statement in program}
+
+
+def reached_by(program, ways):
+    """The lines to which such ways lead from the first line on, that line too."""
     reached = []
     waiting = [line[0] for line in program[:1]]
     while len(waiting) > 0:
         number = waiting.pop()
         if number != 0 and number not in reached:
             reached.append(number)
-            waiting.extend(may_be_next(program, number))
+            waiting.extend(ways[number])
+    return reached
+
+
+def never(program):
+    """The lines to which no ways lead from the first line on, rising."""
+    reached = reached_by(program, all_ways(program))
     return [line[0] for line in program if line[0] not in reached]

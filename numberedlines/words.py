@@ -75,6 +75,15 @@ def is_tuple_of(thing, test):
     return isinstance(thing, tuple) and all([test(part) for part in thing])
 
 
+def is_just(thing, told):
+    """Whether it is the told thing throughout: a truth is no number, though Python calls them equal."""
+    if isinstance(told, tuple):
+        if not isinstance(thing, tuple) or len(thing) != len(told):
+            return False
+        return all([is_just(part, told_part) for part, told_part in zip(thing, told)])
+    return isinstance(thing, bool) == isinstance(told, bool) and thing == told
+
+
 def rises(things):
     """Whether each one is greater than the one ahead of it."""
     return all([one < other for one, other in zip(things, things[1:])])

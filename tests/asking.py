@@ -3,7 +3,7 @@
 import itertools
 import unittest
 
-from numberedlines.errors import TooMany
+from numberedlines.errors import LineError, NoText, TooMany
 from things import is_plain, is_same
 
 
@@ -37,3 +37,14 @@ class Asking(unittest.TestCase):
             for most in (0, 1, 10 ** 99):
                 with self.assertRaises(TooMany):
                     function(*things, worths=worths, most_inputs=most_inputs, most=most)
+
+
+class Refusing(Asking):
+    def assert_refused(self, line, function, thing):
+        before = repr(thing)
+        for _ in range(2):
+            with self.assertRaises(NoText) as caught:
+                function(thing)
+            self.assertEqual(repr(caught.exception.line), repr(line), repr(thing)[:200])
+            self.assertIsInstance(caught.exception, LineError)
+        self.assertEqual(repr(thing), before)

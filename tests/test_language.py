@@ -84,6 +84,34 @@ class Names(unittest.TestCase):
             self.assertFalse(name.startswith("_"), (file, name))
             self.assertNotIn(name, BARRED_NAMES, file)
 
+    def test_no_parameter_or_variable_has_the_name_of_an_import_or_a_class_of_its_file(self):
+        for file, tree in trees():
+            taken = {alias.name for node in ast.walk(tree) if isinstance(node, ast.ImportFrom) for alias in node.names}
+            taken |= {node.name for node in ast.walk(tree) if isinstance(node, ast.ClassDef)}
+            bound = {node.id for node in ast.walk(tree) if isinstance(node, ast.Name) and isinstance(node.ctx, ast.Store)}
+            bound |= {node.arg for node in ast.walk(tree) if isinstance(node, ast.arg)}
+            bound |= {node.name for node in tree.body if isinstance(node, ast.FunctionDef)}
+            self.assertEqual(taken & bound, set(), file.name)
+
+    def test_a_name_is_bound_once_at_the_top_of_a_file(self):
+        for file, tree in trees():
+            bound = [node.name for node in tree.body if isinstance(node, (ast.FunctionDef, ast.ClassDef))]
+            bound += [target.id for node in tree.body if isinstance(node, ast.Assign) for target in node.targets]
+            self.assertEqual(len(bound), len(set(bound)), file.name)
+
+    def test_no_name_is_both_a_method_and_an_attribute(self):
+        methods = {method.name for _, node in nodes(ast.ClassDef) for method in node.body if isinstance(method, ast.FunctionDef)}
+        attributes = {node.attr for _, node in nodes(ast.Attribute) if isinstance(node.ctx, ast.Store)}
+        self.assertEqual(methods & attributes, set())
+
+    def test_no_two_files_import_from_each_other(self):
+        needs = {file.stem: {node.module.split(".")[1] for node in ast.walk(tree) if isinstance(node, ast.ImportFrom)}
+                 for file, tree in trees()}
+        while needs:
+            free = [name for name in needs if not needs[name] & set(needs)]
+            self.assertNotEqual(free, [], needs)
+            needs = {name: needs[name] for name in needs if name not in free}
+
     def test_only_known_builtins_and_methods_are_used(self):
         known = set(BUILTINS)
         for kind, field in ((ast.FunctionDef, "name"), (ast.ClassDef, "name"), (ast.arg, "arg"), (ast.alias, "name")):
@@ -107,6 +135,13 @@ class Expressions(unittest.TestCase):
     def test_what_is_left_out(self):
         left_out = (ast.Div, ast.Global, ast.AsyncFunctionDef, ast.Await, ast.GeneratorExp, ast.Lambda, ast.MatMult)
         self.assertEqual([(file, node) for file, node in nodes(left_out)], [])
+
+    def test_only_own_errors_are_caught_and_raised(self):
+        own = {node.name for file, node in nodes(ast.ClassDef) if file == "errors.py"}
+        for file, node in nodes(ast.ExceptHandler):
+            self.assertIn(node.type.id, own, (file, node.lineno))
+        for file, node in nodes(ast.Raise):
+            self.assertIn(node.exc.func.id, own, (file, node.lineno))
 
     def test_constants(self):
         for file, node in nodes(ast.Constant):

@@ -1,7 +1,7 @@
 """Expressions, lines and programs read back from what is written.
 
-Read is whatever tokens of the right forms stand in the text; what comes of it is told only where it is
-such a thing, and where it is written just as the text is.
+Read is what the tokens at the beginning of the text tell by their forms. What comes of it is told only where
+it is such a thing, and where it is written just as the whole text is, blanks and all.
 """
 
 from numberedlines.errors import NoText
@@ -20,26 +20,23 @@ from numberedlines.words import (
 
 
 def read_expression(text):
-    found = tokens(text)
-    expression, end = expression_at(found, 0, 1)
-    if end != len(found) or not is_expression(expression) or show_expression(expression) != text:
+    expression = expression_at(tokens(text), 0, 1)[0]
+    if not is_expression(expression) or show_expression(expression) != text:
         raise NoText(0)
     return expression
 
 
 def read_line(text):
-    found = tokens(text)
-    line, end = line_at(found)
-    if end != len(found) or not is_line(line) or show_line(line) != text:
+    line = line_at(tokens(text), 0)[0]
+    if not is_line(line) or show_line(line) != text:
         raise NoText(0)
     return line
 
 
 def read_worth(text):
     """The worth that is so written in a data line."""
-    found = tokens(text)
-    worth, end = worth_at(found, 0)
-    if end != len(found) or not is_worth(worth) or show_worth(worth) != text:
+    worth = worth_at(tokens(text), 0)[0]
+    if not is_worth(worth) or show_worth(worth) != text:
         raise NoText(0)
     return worth
 
@@ -71,12 +68,12 @@ def line_or_none(text):
 # Each of the following tells a tuple of what begins at that place among the tokens and the place behind it.
 
 
-def line_at(found):
-    number, at = number_at(found, 0)
-    word = statement_word(found, at)
+def line_at(found, at):
+    number, begun = number_at(found, at)
+    word = statement_word(found, begun)
     if word not in STATEMENT_FORMS:
         raise NoText(0)
-    parts, end = parts_at(found, at, STATEMENT_FORMS[word], STATEMENTS[word], 0)
+    parts, end = parts_at(found, begun, STATEMENT_FORMS[word], STATEMENTS[word], 0)
     return ((number, (word, *parts)), end)
 
 

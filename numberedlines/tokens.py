@@ -117,8 +117,8 @@ def is_called(found, at):
 
 
 def is_of_statement(found, word):
-    """Whether they are of a line whose statement begins with the word."""
-    return len(found) > 1 and found[0][0] == "figures" and found[1] == ("word", word)
+    """Whether they, two or more, are of a line whose statement begins with the word."""
+    return found[0][0] == "figures" and found[1] == ("word", word)
 
 
 def number_of(figures):

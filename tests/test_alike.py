@@ -42,6 +42,20 @@ class Held(Asking):
         self.assert_held(("alike", 7), says(1), ((5, NOTE), (7, ("set", "a", ONE)), (9, ("say", (A,)))))
         self.assert_held(("alike", 7), ((10, ("say", (B,))),), ((70, ("say", (A,))),))
 
+    def test_by_nought_and_one_and_two_inputs_where_none_are_told(self):
+        for worth in (0, 1):
+            one = ((10, ("ask", "a")), (20, ("say", (("=", A, number(worth)),))))
+            other = ((10, ("ask", "a")), (20, ("say", (number(0),))))
+            self.assert_held(("apart", (worth,)), one, other)
+        asking = tuple((at, ("ask", "a")) for at in (1, 2, 3))
+        self.assert_held(("apart", (0, 0)), (*asking[:2], (5, ("say", ()))), asking[:2])
+        self.assert_held(("alike", 7), (*asking, (5, ("say", ()))), asking)
+        for thing in (("alike", 6), ("alike", 8), ("apart", (0, 0, 0))):
+            self.assertIs(lets_held(asking, asking, thing), False)
+        for worth in (0, 1):
+            one = ((10, ("ask", "a")), (20, ("when", ("=", A, number(worth)), 20)))
+            self.assert_held(("open", (worth,)), one, one)
+
     def test_how_many_were_tried(self):
         for worths, most_inputs, many in (((0, 1), 2, 7), ((0, 1), 0, 1), ((0, 1), 1, 3), ((0, 1), 3, 15), ((0,), 5, 6),
                                           ((), 0, 1), ((), 1, 1), ((), 10 ** 99, 1), ((0, 1, "x"), 2, 13), (("x",), 1999, 2000),
@@ -113,7 +127,9 @@ class Held(Asking):
 
     def test_two_hundred_steps_where_none_is_told(self):
         self.assert_held(("alike", 7), loops(99), says(1))
-        self.assert_held(("open", ()), loops(100), says(1))
+        self.assert_held(("open", ()), ((5, NOTE), *loops(99)), says(1))
+        self.assertIs(lets_held(((5, NOTE), *loops(99)), says(1), ("open", ())), True)
+        self.assert_held(("alike", 7), ((5, NOTE), *loops(99)), says(1), most=201)
 
     def test_no_steps_at_all(self):
         self.assert_held(("open", ()), says(1), says(2), most=0)

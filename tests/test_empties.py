@@ -286,6 +286,14 @@ class FoundEmpty(Asking):
         self.assert_found(None, (), 10, "a")
         self.assert_found(None, ((10, END), (20, SAY)), 20, "a")
 
+    def test_by_nought_and_one_and_two_inputs_where_none_are_told(self):
+        for first in (0, 1):
+            for second in (0, 1):
+                program = ((10, ("ask", "n")), (20, ("ask", "m")), (30, ("when", ("=", box("n"), number(first)), 50)), (40, END),
+                           (50, ("when", ("=", box("m"), number(second)), 70)), (60, END), (70, SAY))
+                self.assert_found((first, second), program, 70, "a")
+                self.assert_found(None, ((5, ("ask", "n")), *program), 70, "a")
+
     def test_worths_in_their_order(self):
         for worths, told in (((1, 0), (1,)), ((0, 1), (1,)), ((5, 1, 0), (5,)), ((0, -1), (-1,)), ((0,), None), ((), None),
                              (("x", 0), None), (("x", 2), (2,))):
@@ -306,7 +314,7 @@ class FoundEmpty(Asking):
             self.assert_found((1,) if most > 2 else None, ASKS, 40, "a", most=most)
         self.assert_found(None, ASKS, 80, "b", most=6)
         self.assert_found((0, 1), ASKS, 80, "b", most=7)
-        loops = ((10, ("loop", "i", ONE, number(99), ONE)), (20, ("again", "i")), (30, SAY))
+        loops = ((10, ("loop", "i", ONE, number(198), ONE)), (20, ("again", "i")), (30, SAY))
         self.assert_found((), loops, 30, "a")
         longer = ((10, ("loop", "i", ONE, number(199), ONE)), *loops[1:])
         self.assert_found(None, longer, 30, "a")

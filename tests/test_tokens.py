@@ -68,6 +68,15 @@ class Tokens(Refusing):
         self.assert_tokens(") a ] 1 , ;", sign(")"), word("a"), sign("]"), figures("1"), sign(","), sign(";"))
         self.assert_tokens('"' + LONG * 3 + '"', ("text", '"' + LONG * 3 + '"'))
 
+    def test_each_letter_beside_figures(self):
+        for letter in "abcdefghijklmnopqrstuvwxyz":
+            self.assert_tokens(f"1{letter}1", figures("1"), word(letter), figures("1"))
+            self.assert_tokens(f"{letter}10 note x", word(letter), figures("10"), word("note"), word("x"))
+            self.assert_tokens(f"10{letter} note x", figures("10"), word(letter), word("note"), word("x"))
+            self.assert_tokens(f"10 {letter}note x", figures("10"), word(letter + "note"), word("x"))
+        for figure in "0123456789":
+            self.assert_tokens(f"a{figure}a", word("a"), figures(figure), word("a"))
+
     def test_long_ones(self):
         self.assert_tokens("9" * 20000, figures("9" * 20000))
         self.assert_tokens("a" * 20000, word("a" * 20000))
@@ -112,7 +121,7 @@ class Tokens(Refusing):
             if one not in allowed:
                 for text in (one, f"a{one}", f"{one}a", f"10 say {one}", f"10 say a {one}"):
                     self.assert_refused(0, tokens, text)
-        for text in ("\n", "10 end\n", "10 end\n20 end", "10 end\r", "\t", '"a\nb"', '"a\n"', "\n10 end", "10\nnote x", "A"):
+        for text in ("\n", "10 end\n", "10 end\n20 end", "10 end\r", "\t", '"a\nb"', '"a\n"', '"\n"', '"\na"', '"\t"', "\n10 end", "10\nnote x", "A"):
             self.assert_refused(0, tokens, text)
 
     def test_what_is_no_text(self):
